@@ -50,6 +50,11 @@ func (w *Writer) AskText(num int, s string) {
 	}
 }
 
+// AskKind asks whether a number of a Kind may be: 1 and 2 have one, 0 has none.
+func (w *Writer) AskKind(kind int, n uint64) {
+	w.Ask(kind == 0 && n == 0 || kind == 1 || kind == 2)
+}
+
 func (w *Writer) fail(err error) {
 	if w.err == nil {
 		w.err = err

@@ -88,8 +88,7 @@ func TestUnpackWrong(t *testing.T) {
 		code  api.Code
 	}{
 		{"\x0A", 5, api.ErrShort}, {"\x0A\x02\x0A", 5, api.ErrShort}, {"\x0A\x01\x0A", 5, api.ErrShort}, {"\x0A\x03\x0A\x01\xFF", 5, api.ErrUTF8}, {"\x0A\x00", -1, api.ErrDepth}, {"\x0A\x02\x12\x00", 0, api.ErrDepth},
-		{"\x12\x00", 5, api.ErrForm}, {"\x08\x01", 5, api.ErrForm}, {"\x0B\x0C", 5, api.ErrForm}, {"\x0B\x0C", 0, api.ErrDepth}, {"\x00", 5, api.ErrForm}, {"\x08\xFF\xFF\xFF\xFF\xFF\xFF\xFF\xFF\xFF\x02", 5, api.ErrVarint},
-		{"\x12\x00\x0A\x03\x0A\x01\xFF", 5, api.ErrUTF8}, {"\x12\x00\x0A", 5, api.ErrShort}, {"\x0A\x03\x0A\x01\xFF\x0A", 5, api.ErrUTF8},
+		{"\x12\x00", 5, api.ErrForm}, {"\x08\x01", 5, api.ErrForm}, {"\x0B\x0C", 5, api.ErrForm}, {"\x00", 5, api.ErrForm}, {"\x08\xFF\xFF\xFF\xFF\xFF\xFF\xFF\xFF\xFF\x02", 5, api.ErrVarint},
 	} {
 		l, err := attr.Unpack(c.s, c.depth)
 		if at, has := blame.Place(err); l != nil || blame.Code(err) != c.code || !has || at < 0 || at > len(c.s) {

@@ -41,9 +41,9 @@ func TestWrong(t *testing.T) {
 		code  api.Code
 	}{
 		{"", -1, api.ErrRange}, {"", math.MinInt, api.ErrRange}, {"", 20001, api.ErrRange}, {"", math.MaxInt, api.ErrRange},
-		{"", 1, api.ErrShort}, {"\x01\x80", 2, api.ErrShort}, {"\x80\x00", 2, api.ErrShort}, {"\x00", 20000, api.ErrShort},
-		{"\x01", 0, api.ErrLong}, {"\x01\x02\x03", 2, api.ErrLong}, {"\x80\x00\x03", 1, api.ErrLong},
-		{ten, 1, api.ErrVarint}, {"\x80\x00" + ten, 2, api.ErrVarint},
+		{"", 1, api.ErrShort}, {"\x01\x80", 2, api.ErrShort}, {"\x00", 20000, api.ErrShort},
+		{"\x01", 0, api.ErrLong}, {"\x01\x02\x03", 2, api.ErrLong},
+		{ten, 1, api.ErrVarint},
 		{"\x80\x00", 1, api.ErrForm}, {"\x01\x82\x00", 2, api.ErrForm}, {"\x80\x80\x00\x01", 2, api.ErrForm},
 	} {
 		if l, err := dod.Get(c.s, c.count); l != nil || blame.Code(err) != c.code {

@@ -33,8 +33,8 @@ func TestJoin(t *testing.T) {
 func TestPartsWrong(t *testing.T) {
 	const ten = "\xFF\xFF\xFF\xFF\xFF\xFF\xFF\xFF\xFF\x02"
 	for s, code := range map[string]api.Code{
-		"\x01": api.ErrShort, "\x80": api.ErrShort, "\x00\x02a": api.ErrShort, "\xFF\xFF\xFF\xFF\xFF\xFF\xFF\xFF\xFF\x01a": api.ErrShort, "\x81\x00": api.ErrShort, "\x80\x00\x01": api.ErrShort,
-		"\x80\x00": api.ErrForm, "\x81\x00a": api.ErrForm, "\x01a\x80\x80\x00\x01b": api.ErrForm, "\x80\x00" + ten: api.ErrForm,
+		"\x01": api.ErrShort, "\x80": api.ErrShort, "\x00\x02a": api.ErrShort, "\xFF\xFF\xFF\xFF\xFF\xFF\xFF\xFF\xFF\x01a": api.ErrShort,
+		"\x80\x00": api.ErrForm, "\x81\x00a": api.ErrForm, "\x01a\x80\x80\x00\x01b": api.ErrForm,
 		ten: api.ErrVarint, "\x01a" + ten: api.ErrVarint,
 	} {
 		if l, err := ident.Parts(s); l != nil || blame.Code(err) != code {

@@ -136,9 +136,9 @@ func TestFit(t *testing.T) {
 		t.Errorf("%+v, %v", got, err)
 	}
 	without := a
-	without.HasNeg = false
+	without.HasNeg, without.Neg = false, side(0)
 	want = without
-	want.Pos, want.Neg = side(5, 1, 2), side(0)
+	want.Pos = side(5, 1, 2)
 	if got, err := merge.Fit(without, 9); err != nil || !exph.Same(got, want) {
 		t.Errorf("%+v, %v", got, err)
 	}
@@ -242,7 +242,7 @@ func TestLessExp(t *testing.T) {
 		}
 	}
 	ok("all of it", side(0), func(now, was *api.Exp) { was.Neg = now.Neg })
-	ok("of none", side(-1, 1, 2, 3), func(now, was *api.Exp) { was.HasNeg, was.Neg = false, side(0, 99) })
+	ok("of none", side(-1, 1, 2, 3), func(now, was *api.Exp) { was.HasNeg, was.Neg = false, side(0) })
 	ok("of zeros elsewhere", side(-1, 1, 2, 3), func(now, was *api.Exp) { was.Neg = side(-9, 0, 0) })
 	ok("none of none", side(0), func(now, was *api.Exp) {
 		now.HasNeg, was.HasNeg, now.Neg, was.Neg = false, false, side(0), side(0)

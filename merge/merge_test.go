@@ -104,7 +104,6 @@ func TestHist(t *testing.T) {
 		}
 	}
 	wrong("Bounds", api.ErrUnlike, func(a, b *api.Hist) { b.Bounds = []uint64{9}; b.Count = math.MaxUint64 })
-	wrong("zeros", api.ErrUnlike, func(a, b *api.Hist) { a.Bounds, b.Bounds = []uint64{0}, []uint64{1 << 63} })
 	wrong("more Bounds", api.ErrUnlike, func(a, b *api.Hist) { b.Bounds = []uint64{8, 9} })
 	wrong("Counts", api.ErrUnlike, func(a, b *api.Hist) { a.Counts = nil })
 	wrong("Count", api.ErrRange, func(a, b *api.Hist) { a.Count = math.MaxUint64 - 12 })

@@ -39,13 +39,23 @@ func TestWrong(t *testing.T) {
 		code  api.Code
 	}{
 		{"", -1, api.ErrRange}, {"", math.MinInt, api.ErrRange}, {"\x00\xA0\x9C\x01", 20001, api.ErrRange}, {"", math.MaxInt, api.ErrRange},
-		{"", 1, api.ErrShort}, {"\x07", 1, api.ErrShort}, {"\x07\x01", 3, api.ErrShort}, {"\x07\x80", 1, api.ErrShort}, {"\x07\x00\x07\x00", 3, api.ErrShort},
-		{"\x07\x00", 0, api.ErrLong}, {"\x07\x01", 1, api.ErrLong}, {"\x07\x00\x08\x00", 1, api.ErrLong}, {"\x07\xFF\xFF\xFF\xFF\xFF\xFF\xFF\xFF\xFF\x01", 5, api.ErrLong}, {"\x07\x00\x07\x00\x01", 2, api.ErrLong},
-		{ten, 1, api.ErrVarint}, {"\x01" + ten, 1, api.ErrVarint}, {"\x07\x00\x07\x00" + ten, 3, api.ErrVarint},
+		{"", 1, api.ErrShort}, {"\x07", 1, api.ErrShort}, {"\x07\x01", 3, api.ErrShort}, {"\x07\x80", 1, api.ErrShort},
+		{"\x07\x00", 0, api.ErrLong}, {"\x07\x00\x08\x00", 1, api.ErrLong},
+		{ten, 1, api.ErrVarint}, {"\x01" + ten, 1, api.ErrVarint},
 		{"\x07\x00\x07\x00", 2, api.ErrForm}, {"\x87\x00\x01", 2, api.ErrForm}, {"\x07\x81\x00", 2, api.ErrForm},
 	} {
 		if l, err := runs.Get(c.s, c.count); l != nil || blame.Code(err) != c.code {
 			t.Errorf("case %d: %v, %v", i, l, err)
+		}
+	}
+}
+
+// P22.1: a run that is longer than it may be.
+func TestLongRun(t *testing.T) {
+	for s, count := range map[string]int{"\x07\x01": 1, "\x07\x00\x08\x05": 3, "\x07\xFF\xFF\xFF\xFF\xFF\xFF\xFF\xFF\xFF\x01": 5, "\x07\xFF\xFF\xFF\xFF\xFF\xFF\xFF\xFF\x7F": 5} {
+		l, err := runs.Get(s, count)
+		if code := blame.Code(err); l != nil || code != api.ErrLong && code != api.ErrForm {
+			t.Errorf("% X: %v, %v", s, l, err)
 		}
 	}
 }

@@ -102,11 +102,6 @@ func TestInvalid(t *testing.T) {
 		}
 		_ = value.Size(x)
 	}
-	ring := make([]api.Value, 2)
-	ring[0], ring[1] = api.Value{Kind: 5, L: ring}, api.Value{Kind: 6, M: []api.KeyValue{{Has: true, Value: api.Value{Kind: 5, L: ring}}}}
-	if text := values.Invalid(ring[0], 32); text != "" {
-		t.Error("a ring:", text)
-	}
 }
 
 // P8.1

@@ -80,7 +80,7 @@ func TestWrong(t *testing.T) {
 		code  api.Code
 	}{
 		{"", -1, api.ErrRange}, {"", math.MinInt, api.ErrRange}, {"", 20001, api.ErrRange}, {"", math.MaxInt, api.ErrRange},
-		{"", 1, api.ErrShort}, {eight[:7], 1, api.ErrShort}, {eight, 2, api.ErrShort}, {eight + "\x00", 10, api.ErrShort}, {eight + "\x80", 2, api.ErrShort}, {eight + "\x80\x78", 2, api.ErrShort}, {text(0, 64, 1, 1, 1, 6, 63, 6, 1, 1), 2, api.ErrShort},
+		{"", 1, api.ErrShort}, {eight[:7], 1, api.ErrShort}, {eight, 2, api.ErrShort}, {eight + "\x00", 10, api.ErrShort}, {eight + "\x80", 2, api.ErrShort}, {eight + "\x80\x78", 2, api.ErrShort}, {text(0, 64, 1, 1, 0, 6, 63, 6, 1, 1), 2, api.ErrShort},
 		{"\x00", 0, api.ErrLong}, {eight, 0, api.ErrLong}, {eight + "\x00", 1, api.ErrLong}, {eight + "\x00\x00", 2, api.ErrLong}, {text(0, 64, 1, 1, 0, 6, 0, 6, 0, 1, 0, 8), 2, api.ErrLong},
 		{eight + "\x01", 2, api.ErrForm}, {eight + "\x40", 2, api.ErrForm},
 		{text(0, 64, 1, 1, 3, 6, 1, 6, 2, 2), 2, api.ErrForm}, {text(0, 64, 1, 1, 3, 6, 1, 6, 1, 2), 2, api.ErrForm}, {text(0, 64, 1, 1, 3, 6, 0, 6, 0, 1), 2, api.ErrForm}, {text(0, 64, 1, 1, 63, 6, 1, 6, 3, 2), 2, api.ErrForm}, {text(0, 64, 1, 1, 1, 6, 63, 6, 1<<63|1, 64), 2, api.ErrForm},

@@ -1,6 +1,7 @@
 package batch_test
 
 import (
+	"slices"
 	"strings"
 	"testing"
 
@@ -8,6 +9,7 @@ import (
 	"hygrometer/batch"
 	"hygrometer/blame"
 	"hygrometer/probe"
+	"hygrometer/wire"
 )
 
 // calls are those of a batch, at the only depth there is.
@@ -134,6 +136,60 @@ func TestWrong(t *testing.T) {
 	}
 }
 
+// groups are n groups, one within the other, of a number that no table has, in
+// messages of some numbers, one within the other.
+func groups(n int, nums ...int) string {
+	s := strings.Repeat("\x9B\x06", n) + strings.Repeat("\x9C\x06", n)
+	for _, num := range slices.Backward(nums) {
+		s = wire.Bytes(num, s)
+	}
+	return s
+}
+
+// P17.1: each message within may be one less deep.
+func TestDepths(t *testing.T) {
+	metrics := func(m api.Metric) api.Batch { return sco(api.ScopeMetrics{Metrics: []api.Metric{m}}) }
+	for i, c := range []struct {
+		depth int
+		nums  []int
+		made  func(s string) api.Batch
+	}{
+		{32, nil, func(s string) api.Batch { return api.Batch{Unknown: s} }},
+		{31, []int{1}, func(s string) api.Batch { return res(api.ResourceMetrics{Unknown: s}) }},
+		{30, []int{1, 1}, func(s string) api.Batch {
+			return res(api.ResourceMetrics{Has: true, Resource: api.Resource{Unknown: s}})
+		}},
+		{30, []int{1, 2}, func(s string) api.Batch { return sco(api.ScopeMetrics{Unknown: s}) }},
+		{29, []int{1, 2, 1}, func(s string) api.Batch { return sco(api.ScopeMetrics{Has: true, Scope: api.Scope{Unknown: s}}) }},
+		{29, []int{1, 2, 2}, func(s string) api.Batch { return metrics(api.Metric{Unknown: s}) }},
+		{28, []int{1, 2, 2, 5}, func(s string) api.Batch { return metrics(api.Metric{Kind: 1, Inner: s}) }},
+		{27, []int{1, 2, 2, 5, 1}, func(s string) api.Batch { return metrics(api.Metric{Kind: 1, Numbers: []api.Number{{Unknown: s}}}) }},
+	} {
+		s := groups(c.depth, c.nums...)
+		if got, err := batch.Marshal(c.made(groups(c.depth))); got != s || err != nil {
+			t.Errorf("case %d: % X, %v", i, got, err)
+		}
+		if text := calls.Read(s, 0, c.made(groups(c.depth))); text != "" {
+			t.Errorf("case %d: %s", i, text)
+		}
+		if text := calls.Invalid(c.made(groups(c.depth+1)), 0); text != "" {
+			t.Errorf("case %d: %s", i, text)
+		}
+		if text := calls.Wrong(groups(c.depth+1, c.nums...), 0, api.ErrDepth); text != "" {
+			t.Errorf("case %d: %s", i, text)
+		}
+	}
+	inner := func(s string) api.Response { return api.Response{Has: true, Inner: s} }
+	for _, text := range []string{
+		answers.Read(groups(32), 0, api.Response{Unknown: groups(32)}), answers.Wrong(groups(33), 0, api.ErrDepth), answers.Invalid(api.Response{Unknown: groups(33)}, 0),
+		answers.Read(groups(31, 1), 0, inner(groups(31))), answers.Wrong(groups(32, 1), 0, api.ErrDepth), answers.Invalid(inner(groups(32)), 0),
+	} {
+		if text != "" {
+			t.Error(text)
+		}
+	}
+}
+
 // P17.1: too many bytes are told behind what may not be.
 func TestTooLarge(t *testing.T) {
 	b := res(api.ResourceMetrics{Schema: strings.Repeat("a", api.MaxBytes-8)})
@@ -155,7 +211,13 @@ func TestTooLarge(t *testing.T) {
 	if b, err := batch.Unmarshal("\x07" + strings.Repeat("a", api.MaxBytes)); blame.Code(err) != api.ErrTooLarge || !batch.Same(b, api.Batch{}) {
 		t.Error(err)
 	}
-	r := api.Response{Has: true, Message: strings.Repeat("a", api.MaxBytes)}
+	r := api.Response{Has: true, Message: strings.Repeat("a", api.MaxBytes-8)}
+	if s, err := batch.Answer(r); len(s) != api.MaxBytes || err != nil {
+		t.Error(len(s), err)
+	} else if got, err := batch.ReadAnswer(s); got != r || err != nil {
+		t.Error(err)
+	}
+	r.Message += "a"
 	if s, err := batch.Answer(r); s != "" || blame.Code(err) != api.ErrTooLarge || !batch.MayAnswer(r) {
 		t.Error(err)
 	}

@@ -143,6 +143,9 @@ func TestPoint(t *testing.T) {
 			t.Errorf("of kind %d: %s", kind, check.Name(got))
 		}
 	}
+	if [...]int{check.Fine, check.NoName, check.NoKind, check.NoTemporality, check.NoTime, check.Order, check.Twice, check.NoValue, check.Total, check.Bounds, check.Scale, check.Range} != [...]int{0, 1, 2, 3, 4, 5, 6, 7, 8, 9, 10, 11} {
+		t.Error("the constants")
+	}
 	names := []string{"fine", "no name", "no kind", "no temporality", "no time", "order", "twice", "no value", "total", "bounds", "scale", "range", "?", "?"}
 	for reason, name := range names {
 		if check.Name(reason) != name {
@@ -206,12 +209,21 @@ func TestSplit(t *testing.T) {
 
 // P18.4
 func TestNew(t *testing.T) {
-	b := wrap(good())
+	full := func() api.Batch {
+		m := good()
+		m.Meta = make([]api.KeyValue, 1)
+		b := wrap(m)
+		b.Resources[1].Scopes[0].Scope.Attrs = make([]api.KeyValue, 1)
+		return b
+	}
+	b := full()
 	got, _, _ := check.Split(b)
 	got.Resources[1].Resource.Attrs[0].Key = "z"
 	got.Resources[1].Scopes[0].Metrics[0].Numbers[0].N = 1
+	got.Resources[1].Scopes[0].Metrics[0].Meta[0].Key = "z"
+	got.Resources[1].Scopes[0].Scope.Attrs[0].Key = "z"
 	got.Resources[1].Scopes[0].Schema = "z"
-	if !batch.Same(b, wrap(good())) {
+	if !batch.Same(b, full()) {
 		t.Error("what is answered shares memory")
 	}
 }

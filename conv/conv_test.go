@@ -220,6 +220,9 @@ func TestPoint(t *testing.T) {
 
 // P26.4
 func TestName(t *testing.T) {
+	if [...]int{conv.Told, conv.Started, conv.Restarted, conv.Elder, conv.Full, conv.Unfit} != [...]int{0, 1, 2, 3, 4, 5} {
+		t.Error("the constants")
+	}
 	for verdict, name := range map[int]string{conv.Told: "told", conv.Started: "started", conv.Restarted: "restarted", conv.Elder: "elder", conv.Full: "full", conv.Unfit: "unfit", 6: "?", -1: "?", math.MinInt: "?", math.MaxInt: "?"} {
 		if conv.Name(verdict) != name {
 			t.Error(verdict, conv.Name(verdict))

@@ -35,7 +35,7 @@ func TestWritten(t *testing.T) {
 		{api.Exp{HasNeg: true, Neg: api.Buckets{Unknown: "\x0B\x0C"}}, 2, "\x4A\x02\x0B\x0C"},
 		{api.Exp{Flags: 1}, 0, "\x50\x01"}, {api.Exp{Exemplars: make([]api.Exemplar, 1)}, 1, "\x5A\x00"},
 		{api.Exp{Min: some}, 0, "\x61" + eight(0)}, {api.Exp{Max: some}, 0, "\x69" + eight(0)}, {api.Exp{Threshold: 1}, 0, "\x71" + eight(1)},
-		{api.Exp{Unknown: "\x08\x01\x32\x02ab\x13\x14"}, 1, "\x08\x01\x32\x02ab\x13\x14"},
+		{api.Exp{Unknown: "\x08\x01\x32\x02ab\x13\x14"}, 1, "\x08\x01\x32\x02ab\x13\x14"}, {api.Exp{Unknown: "\x7A\x00\x78\x01\x79abcdefgh\x85\x01abcd"}, 0, "\x7A\x00\x78\x01\x79abcdefgh\x85\x01abcd"},
 		{api.Exp{Attrs: []api.KeyValue{{Key: "k"}}, Start: 1, Time: 2, Count: 3, Sum: api.Opt{Has: true, N: 4}, Min: api.Opt{Has: true, N: 5}, Max: api.Opt{Has: true, N: 6}, Scale: 1, Zero: 7, HasPos: true, Pos: api.Buckets{Offset: 2}, HasNeg: true, Neg: api.Buckets{Counts: []uint64{0}}, Exemplars: []api.Exemplar{{Attrs: []api.KeyValue{{Has: true}}}}, Flags: 1<<32 - 1, Threshold: 8, Unknown: "\x08\x00"}, 3,
 			"\x0A\x03\x0A\x01k\x11" + eight(1) + "\x19" + eight(2) + "\x21" + eight(3) + "\x29" + eight(4) + "\x30\x02\x39" + eight(7) + "\x42\x02\x08\x04\x4A\x03\x12\x01\x00\x50\xFF\xFF\xFF\xFF\x0F\x5A\x04\x3A\x02\x12\x00\x61" + eight(5) + "\x69" + eight(6) + "\x71" + eight(8) + "\x08\x00"},
 	} {

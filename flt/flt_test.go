@@ -23,6 +23,9 @@ func rising() []uint64 {
 
 // P6.1
 func TestClass(t *testing.T) {
+	if [...]int{flt.Zero, flt.Sub, flt.Normal, flt.Inf, flt.NaN} != [...]int{0, 1, 2, 3, 4} {
+		t.Error("the constants")
+	}
 	for x, class := range map[uint64]int{
 		0: flt.Zero, 1: flt.Sub, 1<<52 - 1: flt.Sub, 1 << 52: flt.Normal, 0x3FF0000000000000: flt.Normal, 0x7FEFFFFFFFFFFFFF: flt.Normal,
 		0x7FF0000000000000: flt.Inf, 0x7FF0000000000001: flt.NaN, 0x7FF8000000000000: flt.NaN, 0x7FFFFFFFFFFFFFFF: flt.NaN,

@@ -48,15 +48,15 @@ func blot(x reflect.Value) {
 }
 
 func check[T any](t *testing.T, copied func(T) T) {
-	var x T
+	var x, want T
 	fill(reflect.ValueOf(&x).Elem(), 4)
+	fill(reflect.ValueOf(&want).Elem(), 4)
 	y := copied(x)
-	if !reflect.DeepEqual(x, y) {
+	if !reflect.DeepEqual(y, want) {
 		t.Errorf("%T: the copy is another one", x)
 	}
-	z := copied(x)
 	blot(reflect.ValueOf(&y).Elem())
-	if !reflect.DeepEqual(x, z) {
+	if !reflect.DeepEqual(x, want) {
 		t.Errorf("%T: what is written into the copy is seen elsewhere", x)
 	}
 	var none T

@@ -57,6 +57,20 @@ func TestExp(t *testing.T) {
 	if got, err := merge.Exp(a, b, 2); err != nil || !exph.Same(got, want) {
 		t.Errorf("%+v, %v", got, err)
 	}
+	back := a
+	back.Start, back.Scale, back.Count, back.Zero, back.Sum, back.Min, back.Max, back.Pos, back.Neg = 11, 2, 43, 10, opt(17), opt(-15), opt(5), side(2, 6), side(-1, 1, 7)
+	if got, err := merge.Exp(b, a, 2); err != nil || !exph.Same(got, back) {
+		t.Errorf("%+v, %v", got, err)
+	}
+	for i := range 6 {
+		a, b := exps()
+		x, want := []*api.Opt{&a.Sum, &a.Min, &a.Max, &b.Sum, &b.Min, &b.Max}[i], want
+		*x = api.Opt{}
+		*[]*api.Opt{&want.Sum, &want.Min, &want.Max}[i%3] = api.Opt{}
+		if got, err := merge.Exp(a, b, 2); err != nil || !exph.Same(got, want) {
+			t.Errorf("without number %d: %+v, %v", i, got, err)
+		}
+	}
 	// To lie within one place, -1 and 0 would have to be shifted together, which no shift does.
 	if got, err := merge.Exp(a, b, 1); blame.Code(err) != api.ErrRange || !exph.Same(got, api.Exp{}) {
 		t.Error(got, err)

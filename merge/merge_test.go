@@ -86,6 +86,11 @@ func TestHist(t *testing.T) {
 	if got, err := merge.Hist(a, b); err != nil || !hist.Same(got, want) {
 		t.Errorf("%+v, %v", got, err)
 	}
+	back := a
+	back.Start, back.Count, back.Sum, back.Min, back.Max, back.Counts = 11, 43, opt(17), opt(-15), opt(5), []uint64{10, 9}
+	if got, err := merge.Hist(b, a); err != nil || !hist.Same(got, back) {
+		t.Errorf("%+v, %v", got, err)
+	}
 	for i := range 6 {
 		a, b := hists()
 		x, want := []*api.Opt{&a.Sum, &a.Min, &a.Max, &b.Sum, &b.Min, &b.Max}[i], want

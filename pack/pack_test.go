@@ -143,6 +143,41 @@ func TestPackWrong(t *testing.T) {
 	}
 }
 
+// P24.1: the most bytes that may be.
+func TestMostBytes(t *testing.T) {
+	// Short ones take more bytes in columns than in a message.
+	long := func(n int) api.Batch {
+		b := api.Batch{Resources: make([]api.ResourceMetrics, 4001)}
+		for i := 2; i < 4001; i += 2 {
+			b.Resources[i].Schema = "a"
+		}
+		b.Resources[0].Schema = strings.Repeat("a", n)
+		return b
+	}
+	const n = api.MaxBytes - 20000
+	most := n + api.MaxBytes - len(there(t, long(n)))
+	if z := there(t, long(most)); len(z) != api.MaxBytes || batch.Size(long(most)) >= api.MaxBytes {
+		t.Error(len(z))
+	}
+	if z, err := pack.Pack(long(most + 1)); z != "" || blame.Code(err) != api.ErrTooLarge {
+		t.Error(err)
+	}
+	schema := strings.Repeat("a", 1<<15)
+	var b api.Batch
+	for range 8 {
+		b.Resources = append(b.Resources, api.ResourceMetrics{Schema: schema})
+	}
+	b.Resources[0].Schema = schema[:1<<15-(batch.Size(b)-api.MaxBytes)]
+	if batch.Size(b) != api.MaxBytes {
+		t.Fatal(batch.Size(b))
+	}
+	there(t, b)
+	b.Resources[0].Schema += "a"
+	if z, err := pack.Pack(b); z != "" || blame.Code(err) != api.ErrTooLarge {
+		t.Error(err)
+	}
+}
+
 // P24.1: at most so many numbers and texts.
 func TestMost(t *testing.T) {
 	// A zero metric puts ten numbers behind Shape, and ten stand ahead of all.

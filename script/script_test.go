@@ -25,7 +25,7 @@ func TestMetric(t *testing.T) {
 		k, a, b, c int
 		m          api.Metric
 	}{
-		{0, 0, 0, 0, api.Metric{Name: "m0"}}, {1, 5, 1, 1, api.Metric{Name: "m1", Kind: 1}}, {2, 6, 1, 1, api.Metric{Name: "m2", Kind: 2, Temporality: 2, Monotonic: true}}, {8, 7, 4, 2, api.Metric{Name: "m3", Kind: 2, Temporality: 1}},
+		{0, 0, 0, 0, api.Metric{Name: "m0"}}, {1, 5, 1, 1, api.Metric{Name: "m1", Kind: 1}}, {2, 6, 1, 1, api.Metric{Name: "m2", Kind: 2, Temporality: 2, Monotonic: true}}, {8, 7, 4, 2, api.Metric{Name: "m3", Kind: 2, Temporality: 1}}, {2, 0, 0, 3, api.Metric{Name: "m0", Kind: 2, Temporality: 1, Monotonic: true}}, {2, 0, 3, 4, api.Metric{Name: "m0", Kind: 2, Temporality: 2}},
 		{3, 0, 3, 1, api.Metric{Name: "m0", Kind: 3, Temporality: 2}}, {4, 0, 0, 1, api.Metric{Name: "m0", Kind: 4, Temporality: 1}}, {5, 0, 1, 1, api.Metric{Name: "m0", Kind: 5}}, {6, 0, 1, 1, api.Metric{Name: "m0"}},
 		{-4, -1, -1, -1, api.Metric{Name: "m0"}}, {2, math.MinInt, math.MinInt, math.MinInt, api.Metric{Name: "m0", Kind: 2, Temporality: 1}}, {math.MaxInt, math.MaxInt, math.MaxInt, math.MaxInt, api.Metric{Name: "m3", Kind: 1}},
 	} {
@@ -49,6 +49,7 @@ func TestPoint(t *testing.T) {
 		{1, big - 1, big, big, api.Metric{Numbers: []api.Number{{Start: 15, Time: 19, Kind: 2, N: big}}}},
 		{1, big, big, big, api.Metric{Numbers: []api.Number{{Attrs: attrs(1), Start: 15, Time: 19, Kind: 1, N: f(0x1p63)}}}},
 		{3, 6, 7, 8, api.Metric{Hists: []api.Hist{{Start: 7, Time: 8, Count: 5, Counts: []uint64{3, 2}, Bounds: []uint64{f(2)}}}}},
+		{3, 4, 1, 9, api.Metric{Hists: []api.Hist{{Attrs: attrs(1), Start: 1, Time: 3, Count: 5, Counts: []uint64{4, 1}, Bounds: []uint64{0}}}}},
 		{3, 5, 0, 10, api.Metric{Hists: []api.Hist{{Attrs: attrs(2), Time: 3, Sum: api.Opt{Has: true, N: f(10)}, Counts: []uint64{0, 0}, Bounds: []uint64{f(1)}}}}},
 		{4, 5, 33, 6, api.Metric{Exps: []api.Exp{{Attrs: attrs(2), Start: 1, Time: 4, Count: 4, Scale: 2, Zero: 1, HasPos: true, Pos: api.Buckets{Offset: -15, Counts: []uint64{2, 1}}}}}},
 		{4, 0, 31, 5, api.Metric{Exps: []api.Exp{{Start: 15, Time: 17, Count: 3, Scale: 1, HasPos: true, Pos: api.Buckets{Offset: 15, Counts: []uint64{0, 3}}}}}},
@@ -86,8 +87,9 @@ func TestBatch(t *testing.T) {
 		{[]byte{17, 1, 2, 3}, []api.ResourceMetrics{{Scopes: one(script.Point(sum, 1, 2, 3))}}},
 		{[]byte{16, 1, 2, 3, 25, 4, 5, 6}, []api.ResourceMetrics{{Scopes: one(script.Point(script.Point(sum, 1, 2, 3), 4, 5, 6))}}},
 		{[]byte{16, 1, 2, 3, 26, 4, 5, 6}, []api.ResourceMetrics{{Scopes: one(script.Point(sum, 1, 2, 3), script.Point(hist, 4, 5, 6))}}},
-		{[]byte{6, 0, 1, 1, 14, 13, 1, 1}, []api.ResourceMetrics{{}, {Schema: "3"}}},
-		{[]byte{7, 0, 1, 1, 15, 19, 1, 1}, []api.ResourceMetrics{{Scopes: []api.ScopeMetrics{{}, {Has: true, Scope: api.Scope{Name: "9"}}}}}},
+		{[]byte{6, 0, 1, 1, 14, 13, 1, 1, 6, 15, 0, 0, 6, 4, 0, 0}, []api.ResourceMetrics{{}, {Schema: "3"}, {Schema: "5"}, {}}},
+		{[]byte{56, 1, 2, 3}, []api.ResourceMetrics{{Scopes: one(script.Point(script.Metric(7, 1, 2, 3), 1, 2, 3))}}},
+		{[]byte{7, 0, 1, 1, 15, 19, 1, 1, 7, 5, 0, 0, 7, 4, 0, 0}, []api.ResourceMetrics{{Scopes: []api.ScopeMetrics{{}, {Has: true, Scope: api.Scope{Name: "9"}}, {Has: true, Scope: api.Scope{Name: "5"}}, {}}}}},
 		{[]byte{6, 1, 0, 0, 16, 1, 2, 3, 7, 3, 0, 0, 27, 4, 5, 6, 6, 2, 0, 0, 7, 2, 0, 0}, []api.ResourceMetrics{
 			{Schema: "1", Scopes: []api.ScopeMetrics{{Metrics: []api.Metric{script.Point(sum, 1, 2, 3)}}, {Has: true, Scope: api.Scope{Name: "3"}, Metrics: []api.Metric{script.Point(hist, 4, 5, 6)}}}},
 			{Scopes: []api.ScopeMetrics{{}}},
@@ -122,7 +124,7 @@ func TestConfig(t *testing.T) {
 		l    [4]int
 		want session.Config
 	}{
-		{[4]int{}, session.Config{Streams: 1, Buckets: 1, Ticks: 1}}, {[4]int{4, 7, 15, 3}, session.Config{Way: 1, Packed: true, Streams: 8, Buckets: 16, Ticks: 4}}, {[4]int{5, 8, 16, 4}, session.Config{Way: 2, Streams: 1, Buckets: 1, Ticks: 1}}, {[4]int{-1, -1, -1, -1}, session.Config{Streams: 1, Buckets: 1, Ticks: 1}},
+		{[4]int{}, session.Config{Streams: 1, Buckets: 1, Ticks: 1}}, {[4]int{4, 7, 15, 3}, session.Config{Way: 1, Packed: true, Streams: 8, Buckets: 16, Ticks: 4}}, {[4]int{5, 8, 16, 4}, session.Config{Way: 2, Streams: 1, Buckets: 1, Ticks: 1}}, {[4]int{2, 3, 1, 2}, session.Config{Way: 2, Packed: true, Streams: 4, Buckets: 2, Ticks: 3}}, {[4]int{0, 4, 0, 0}, session.Config{Streams: 5, Buckets: 1, Ticks: 1}}, {[4]int{-1, -1, -1, -1}, session.Config{Streams: 1, Buckets: 1, Ticks: 1}},
 		{[4]int{math.MaxInt, math.MaxInt, math.MaxInt, math.MaxInt}, session.Config{Way: 1, Packed: true, Streams: 8, Buckets: 16, Ticks: 4}},
 	} {
 		if got := script.Config(c.l[0], c.l[1], c.l[2], c.l[3]); got != c.want {
@@ -138,6 +140,9 @@ func request(b ...byte) string {
 
 // P28.3
 func TestSteps(t *testing.T) {
+	if [...]int{script.Ingest, script.Tick, script.Flush} != [...]int{1, 2, 3} {
+		t.Error("the constants")
+	}
 	cut := request(16, 1, 2, 3)
 	for i, c := range []struct {
 		b    []byte
@@ -147,6 +152,7 @@ func TestSteps(t *testing.T) {
 		{[]byte{4, 16, 1, 2, 3, 0}, []script.Step{{Kind: script.Ingest, Bytes: request(16, 1, 2, 3)}, {Kind: script.Tick}}},
 		{[]byte{5, 16, 1, 2, 3, 0, 1}, []script.Step{{Kind: script.Ingest, Bytes: request(16, 1, 2, 3)}, {Kind: script.Flush}}},
 		{[]byte{7, 16, 1, 2, 3, 0, 1, 0, 1}, []script.Step{{Kind: script.Ingest, Bytes: cut[:len(cut)-1]}, {Kind: script.Flush}}},
+		{append(append([]byte{15}, slices.Repeat([]byte{16, 1, 2, 3}, 3)...), 9, 9, 9, 0), []script.Step{{Kind: script.Ingest, Bytes: func() string { s := request(slices.Repeat([]byte{16, 1, 2, 3}, 3)...); return s[:len(s)-1] }()}, {Kind: script.Tick}}},
 		{[]byte{7, 0, 0, 0}, []script.Step{{Kind: script.Ingest}}}, {[]byte{2}, []script.Step{{Kind: script.Ingest}}}, {[]byte{6, 16, 1, 2, 3}, []script.Step{{Kind: script.Ingest, Bytes: request(16, 1, 2, 3)}}},
 	} {
 		if got := script.Steps(c.b); !slices.Equal(got, c.want) {

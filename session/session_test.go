@@ -85,6 +85,9 @@ func flush(t *testing.T, s *session.Session, l ...api.Batch) {
 
 // P27.1
 func TestNew(t *testing.T) {
+	if [...]int{session.Pass, session.Up, session.Down} != [...]int{0, 1, 2} {
+		t.Error("the constants")
+	}
 	for _, c := range []session.Config{{Way: -1, Streams: 1, Buckets: 1, Ticks: 1}, {Way: 3, Streams: 1, Buckets: 1, Ticks: 1}, {Way: math.MinInt}, {}, {Streams: 1001, Buckets: 1, Ticks: 1}, {Streams: 1, Buckets: 321, Ticks: 1}, {Streams: 1, Buckets: 1, Ticks: 1000001}} {
 		if s, err := session.New(c); s != nil || blame.Code(err) != api.ErrRange {
 			t.Error(c, err)

@@ -110,6 +110,9 @@ func TestDeepGroups(t *testing.T) {
 
 // P4.2
 func TestWritten(t *testing.T) {
+	if [...]int{wire.Num, wire.F64, wire.Len, wire.Begin, wire.End, wire.F32} != [...]int{0, 1, 2, 3, 4, 5} {
+		t.Error("the constants")
+	}
 	for got, want := range map[string]string{
 		wire.Varint(1, 300):               "\x08\xAC\x02",
 		wire.Varint(1<<29-1, 0):           "\xF8\xFF\xFF\xFF\x0F\x00",

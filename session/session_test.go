@@ -143,6 +143,36 @@ func TestUp(t *testing.T) {
 	}
 }
 
+// P27.2: streams are told apart by ident.Key.
+func TestKeys(t *testing.T) {
+	attrs := func(keys ...string) []api.KeyValue {
+		var l []api.KeyValue
+		for _, key := range keys {
+			l = append(l, api.KeyValue{Key: key, Has: true, Value: api.Value{Kind: 1, S: key}})
+		}
+		return l
+	}
+	b := wrap(sum(1, 1, 2, 3, 1, 3, 4), sum(1, 1, 2, 3))
+	s := b.Resources[0].Scopes[0]
+	s.Scope.Version, s.Scope.Attrs = "v", attrs("y", "x")
+	b.Resources[0].Resource.Attrs = attrs("b", "a")
+	s.Metrics[0].Unit, s.Metrics[1].Monotonic, s.Metrics[1].Name = "u", false, "other"
+	s.Metrics[0].Numbers[1].Attrs = attrs("q", "p")
+	b.Resources = append(b.Resources, api.ResourceMetrics{Scopes: []api.ScopeMetrics{{Metrics: []api.Metric{sum(1, 1, 2, 3)}}}})
+	b.Resources[0].Scopes[0] = s
+	c := open(t, config(session.Up, false))
+	ingest(t, c, b, 0, "")
+	other := b.Resources[1]
+	want := []string{
+		ident.Key(b.Resources[0], s, s.Metrics[0], nil), ident.Key(b.Resources[0], s, s.Metrics[0], attrs("p", "q")), ident.Key(b.Resources[0], s, s.Metrics[1], nil),
+		ident.Key(other, other.Scopes[0], other.Scopes[0].Metrics[0], nil),
+	}
+	slices.Sort(want)
+	if got := c.Table().Keys(); !slices.Equal(got, want) {
+		t.Errorf("%q, not %q", got, want)
+	}
+}
+
 // P27.2: sums are told as deltas.
 func TestDown(t *testing.T) {
 	s := open(t, config(session.Down, true))

@@ -18,20 +18,36 @@ type turn struct {
 func (t *turn) batch(b *api.Batch) {
 	for _, r := range b.Resources {
 		for _, s := range r.Scopes {
+			head := keyHead(r, s)
 			for i := range s.Metrics {
-				t.metric(r, s, &s.Metrics[i])
+				t.metric(head, &s.Metrics[i])
 			}
 		}
 	}
 }
 
-func (t *turn) metric(r api.ResourceMetrics, s api.ScopeMetrics, m *api.Metric) {
+// headParts is how many parts of a key tell the resource and the scope. A key's
+// parts stand one behind the other, and an empty one is a byte: so a key is the
+// head of one without a metric, and the tail of one without these. The head is
+// worked out once, however many points there are.
+const headParts = 6
+
+func keyHead(r api.ResourceMetrics, s api.ScopeMetrics) string {
+	key := ident.Key(r, s, api.Metric{}, nil)
+	return key[:len(key)-len(keyTail(api.Metric{}, nil))]
+}
+
+func keyTail(m api.Metric, l []api.KeyValue) string {
+	return ident.Key(api.ResourceMetrics{}, api.ScopeMetrics{}, m, l)[headParts:]
+}
+
+func (t *turn) metric(head string, m *api.Metric) {
 	to, turned := t.temporality(*m)
 	if !turned {
 		return
 	}
 	put := func(l []api.KeyValue, p conv.Point) (conv.Point, bool) {
-		return t.put(ident.Key(r, s, *m, l), m.Monotonic, p)
+		return t.put(head+keyTail(*m, l), m.Monotonic, p)
 	}
 	m.Numbers = convert(m.Numbers, func(x api.Number) (api.Number, bool) {
 		p, told := put(x.Attrs, conv.Point{Kind: 2, Number: x})
